@@ -133,6 +133,11 @@ func (p *printer) binding(word string, n api.Node) {
 	p.behind("=", value)
 }
 
+// hasParameter tells whether a def or a let is written with a parameter ahead of its `=`.
+func hasParameter(n api.Node) bool {
+	return n.Kind == api.DLet || n.N == 1
+}
+
 func (p *printer) cases(n api.Node) {
 	p.behind("case", n.Kids[0])
 	p.say("of", "[", "]")
