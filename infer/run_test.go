@@ -73,12 +73,12 @@ func (r *runner) bind(n api.Node, s *scope, value any) *scope {
 }
 
 // then goes on with a value when there is one.
-func (o outcome) then(go_on func(value any) outcome) outcome {
+func (o outcome) then(goOn func(value any) outcome) outcome {
 	if o.op == "" {
-		return go_on(o.value)
+		return goOn(o.value)
 	}
 	next := o.next
-	o.next = func(answer any) outcome { return next(answer).then(go_on) }
+	o.next = func(answer any) outcome { return next(answer).then(goOn) }
 	return o
 }
 
