@@ -29,7 +29,7 @@ type named struct {
 
 const makerOps = "op once a : int => int op many b : int => int op many c : unit => bool op once d : int => unit "
 
-var makerTimes = kind{of: 'i'}
+var aNumber = kind{of: 'i'}
 
 func newMaker(seed int64) *maker { return &maker{Rand: rand.New(rand.NewSource(seed))} }
 
@@ -52,10 +52,10 @@ func (m *maker) text() string {
 	return text + "main = " + m.handler(kind{of: "iiilpbf"[m.Intn(7)]}, 4, "")
 }
 
-// parameters are those of a function of a kind, and the kind that it gives then.
+// parameters are those of a function of a kind.
 func (m *maker) parameters(k kind) []named {
-	x := named{m.name(), makerTimes}
-	y := named{m.name(), makerTimes}
+	x := named{m.name(), aNumber}
+	y := named{m.name(), aNumber}
 	for y.name == x.name {
 		y.name = m.name()
 	}
@@ -80,14 +80,14 @@ func (m *maker) binding(f named, depth int) string {
 	}
 	last := inner[len(inner)-1]
 	if last.of != 'i' || m.Intn(2) == 0 {
-		return text + " = " + m.under(makerTimes, depth, f.does, inner...)
+		return text + " = " + m.under(aNumber, depth, f.does, inner...)
 	}
 	again = strings.TrimSuffix(again, last.name) + "(" + last.name + " - 1)"
 	if m.Intn(3) == 0 {
 		inner = append(inner, f)
 	}
-	return fmt.Sprintf("rec %s = if %s < 1 then %s else %s", text, last.name, m.under(makerTimes, depth, f.does, inner...),
-		m.oneOf(again, again+" + "+m.under(makerTimes, depth-1, f.does, inner...), m.under(makerTimes, depth-1, f.does, inner...)+" + "+again))
+	return fmt.Sprintf("rec %s = if %s < 1 then %s else %s", text, last.name, m.under(aNumber, depth, f.does, inner...),
+		m.oneOf(again, again+" + "+m.under(aNumber, depth-1, f.does, inner...), m.under(aNumber, depth-1, f.does, inner...)+" + "+again))
 }
 
 // under makes a value where more names are in sight.
@@ -165,8 +165,8 @@ func (m *maker) own(k kind, depth int, does string) string {
 		if known := m.known('g', k.does); known != "" && m.Intn(2) == 0 {
 			return known + " " + part('i')
 		}
-		x := named{m.name(), makerTimes}
-		return fmt.Sprintf("fn %s => %s", x.name, m.under(makerTimes, depth, k.does, x))
+		x := named{m.name(), aNumber}
+		return fmt.Sprintf("fn %s => %s", x.name, m.under(aNumber, depth, k.does, x))
 	}
 	return m.least(k)
 }
@@ -203,7 +203,7 @@ func (m *maker) number(depth int, does string) string {
 
 // form is an expression that there is of every kind.
 func (m *maker) form(k kind, depth int, does string) string {
-	x, l := named{m.name(), makerTimes}, named{"l", kind{of: 'l'}}
+	x, l := named{m.name(), aNumber}, named{"l", kind{of: 'l'}}
 	part := func(of byte) string { return m.value(kind{of: of}, depth, does) }
 	switch m.Intn(9) {
 	case 0:
