@@ -17,7 +17,7 @@ const (
 	aRes      = "slot 1"
 )
 
-// withAll is a code whose body has two slots, the second of them with a resumption, which costs 10 instructions.
+// withAll is a code whose body has two slots, the second of them with a resumption, which is made ahead of it.
 func withAll(t testing.TB, shape, body string) api.Code {
 	return assemble(t, shape, "op get", "deep 0",
 		"fun 0 2: int 0, make 1, make 2, make 3, handle 0, store 1, "+body,
@@ -53,7 +53,7 @@ func TestPlain(t *testing.T) {
 		{"f", aFunction, "fn"}, {"f", aRes, "fn"},
 		{"i", aFunction + ", int 5, call", "5"}, {"pii", aFunction + ", int 1, int 2, pair, call", "(1, 2)"}, {"i", aRes + ", int 6, call", "6"},
 		{"i", "int 1, " + aFunction + ", int 5, call, sign +", "6"}, {"i", "int 1, " + aRes + ", int 6, call, sign +", "7"},
-		{"pip" + "ii", "int 1, int 2, " + aFunction + ", int 3, call, pair, pair", "(1, (2, 3))"},
+		{"pipii", "int 1, int 2, " + aFunction + ", int 3, call, pair, pair", "(1, (2, 3))"},
 	} {
 		c := withAll(t, row.shape, row.body+", return")
 		got := play(t, c, 100, 100)

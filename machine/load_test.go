@@ -10,14 +10,14 @@ import (
 	"effectus/machine"
 )
 
-// three is a code of three instructions that comes to 12.
-func three(t testing.TB) api.Code {
+// twelve is a code of four instructions that comes to 12.
+func twelve(t testing.TB) api.Code {
 	return assemble(t, "i", "fun 0 0: int 5, int 7, sign +, return")
 }
 
 // TestLoadFaults: those of Decode, then those of Check, then ErrArg; with a fault there is no machine, and Play's outcome is zero.
 func TestLoadFaults(t *testing.T) {
-	good := encode(t, three(t))
+	good := encode(t, twelve(t))
 	spoilt := encode(t, assemble(t, "i", "fun 0 0: int 5, fst, snd, drop, return"))
 	for _, row := range []struct {
 		about string
@@ -54,7 +54,7 @@ func TestLoadFaults(t *testing.T) {
 // TestLoad: a machine stands at its beginning, on a heap of 0 cells as on one of MaxHeap.
 func TestLoad(t *testing.T) {
 	for _, cells := range []int{0, 1, api.MaxHeap} {
-		m := load(t, three(t), cells)
+		m := load(t, twelve(t), cells)
 		if m.Tell() != (api.Outcome{}) || m.Live() != 0 {
 			t.Errorf("%d cells: %+v, %d", cells, m.Tell(), m.Live())
 		}
@@ -63,7 +63,7 @@ func TestLoad(t *testing.T) {
 
 // TestGo: so many instructions are done as are asked for, none for a number below 0, and none behind the end.
 func TestGo(t *testing.T) {
-	m := load(t, three(t), 0)
+	m := load(t, twelve(t), 0)
 	for _, row := range []struct {
 		n, did int
 		want   api.Outcome

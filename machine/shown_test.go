@@ -57,7 +57,7 @@ func TestParts(t *testing.T) {
 		{"ppiilb", "int 3, int 1, int 0, cons, pair", "(?, [true])"}, {"ppipiib", aList + ", int 1, pair", "(?, true)"}, {"plpllbib", "int 0, int 1, pair", "([], true)"},
 		{"plpllbib", "int 9, int 1, pair", "(?, true)"}, {"pppiiipbb", "int 9, int 5, pair, int 1, int 0, pair, pair", "((?, 5), (true, false))"},
 		{"pvv", aPair, "(?, ?)"}, {"v", aPair, "?"}, {"u", aPair, "()"},
-		{"pli" + "i", "int 1, int 1, pair, int 2, pair", "(?, 2)"},
+		{"plii", "int 1, int 1, pair, int 2, pair", "(?, 2)"},
 	} {
 		value(t, row[0], row[1], row[2])
 	}
